@@ -1,0 +1,1 @@
+"""Ruleworlds: rules with "not", their answers, and programs that are alike."""

@@ -1,0 +1,35 @@
+"""The checks of arguments that several files share."""
+
+from ruleworlds.errors import InvalidPair, InvalidWorld, NotAProgram
+from ruleworlds.programs import Program, is_world
+
+
+def is_pair(thing):
+    """Whether thing is a pair (here, there) of worlds."""
+    if not isinstance(thing, tuple) or len(thing) != 2:
+        return False
+    here, there = thing
+    return is_world(here) and is_world(there) and has_all(there, here)
+
+
+def has_all(names, wanted):
+    """Whether each wanted name is one of the names."""
+    return all([name in names for name in wanted])
+
+
+def check_program(thing):
+    """Refuse what is not a program."""
+    if not isinstance(thing, Program):
+        raise NotAProgram(thing)
+
+
+def check_world(thing):
+    """Refuse what is not a world."""
+    if not is_world(thing):
+        raise InvalidWorld(thing)
+
+
+def check_pair(thing):
+    """Refuse what is not a pair."""
+    if not is_pair(thing):
+        raise InvalidPair(thing)
