@@ -1,6 +1,6 @@
 """The checks of arguments that several files share."""
 
-from ruleworlds.errors import InvalidPair, InvalidWorld, NotAProgram
+from ruleworlds.errors import InvalidKind, InvalidPair, InvalidWorld, NotAProgram
 from ruleworlds.programs import Program, is_world
 
 
@@ -33,3 +33,9 @@ def check_pair(thing):
     """Refuse what is not a pair."""
     if not is_pair(thing):
         raise InvalidPair(thing)
+
+
+def check_kind(thing, kinds):
+    """Refuse what is not one of these words."""
+    if thing not in kinds:
+        raise InvalidKind(thing)

@@ -2,12 +2,14 @@
 
 import copy
 import itertools
+import time
 import unittest
 
 from ruleworlds.programs import Program
 
 FACT = (("a",), (), (), ())
 EMPTY_RULE = ((), (), (), ())
+SECONDS = 5
 
 
 def nested(kind, depth):
@@ -42,6 +44,27 @@ def odd_for(*extra):
     return plain_odd() + list(extra)
 
 
+def wrong_programs():
+    return odd_for("", "a", "a.", (), [], ("a",), FACT, EMPTY_RULE, ((), ()), [FACT], [Program()], (Program(),),
+                   {"p": Program()})
+
+
+def wrong_rules():
+    return odd_for("", "a", "a.", (), [], ("a",), ["a"], ((), ()), Program(), Program(FACT), list(FACT))
+
+
+def wrong_worlds():
+    return odd_for("", "a", "ab", [], ["a"], ["a", "b"], ("b", "a"), ("a", "a"), FACT, EMPTY_RULE, ((), ()), Program(),
+                   Program(FACT))
+
+
+def wrong_pairs():
+    return odd_for("", "a", "ab", (), [], ("a",), ("a", "b"), ["a"], FACT, EMPTY_RULE, Program(), Program(FACT),
+                   [(), ()], [("a",), ("a",)], ((), (), ()), (("a",), ()), (("a", "b"), ("a", "c")), (("b",), ("a", "c")),
+                   (["a"], ["a"]), (("a",), ["a"]), (["a"], ("a",)), ((),), (("a",),), (("a", "a"), ("a",)),
+                   (("a",), ("a", "a")), ({}, ()), (Program(), Program()), ((), ((), ())), {"here": (), "there": ()})
+
+
 def anything():
     """Values of all kinds, right ones among them."""
     return plain_odd() + [
@@ -69,7 +92,7 @@ class Case(unittest.TestCase):
     def same(self, one, other, note=None):
         self.assertTrue(same(one, other), f"{one!r} is not {other!r}; {note!r}")
 
-    def error(self, kind, field, value, call, *args, **named):
+    def error(self, kind, field, value, call, /, *args, **named):
         """The call raises just this class of error, with this field, and leaves its arguments as they were."""
         before = copy.deepcopy((args, named))
         try:
@@ -81,18 +104,30 @@ class Case(unittest.TestCase):
             self.fail(f"{call} {args!r} {named!r} raises nothing")
         self.same((args, named), before)
 
-    def gives(self, wanted, call, *args, **named):
+    def gives(self, wanted, call, /, *args, **named):
         """The call returns this, twice, and leaves its arguments as they were."""
         before = copy.deepcopy((args, named))
         self.same(call(*args, **named), wanted, (args, named))
         self.same(call(*args, **named), wanted, (args, named))
         self.same((args, named), before)
 
+    def timed(self, call, *args):
+        """What the call returns, within a few seconds."""
+        start = time.perf_counter()
+        found = call(*args)
+        self.assertLess(time.perf_counter() - start, SECONDS)
+        return found
+
 
 def subsets(names):
     """All sets of these names, as ascending tuples, ascending."""
     names = sorted(names)
     return sorted(w for many in range(len(names) + 1) for w in itertools.combinations(names, many))
+
+
+def all_pairs(names):
+    """All pairs of worlds of these names, ascending."""
+    return [(here, there) for here in subsets(names) for there in subsets(names) if set(here) <= set(there)]
 
 
 def all_rules(names):
@@ -146,7 +181,7 @@ def slow_written(rules):
 def some_programs(names, most, many, draw):
     """Programs, drawn from all rules of the names, with up to most rules each."""
     rules = all_rules(names)
-    return [draw.sample(rules, draw.randrange(most + 1)) for _ in range(many)]
+    return [draw.sample(rules, draw.randrange(min(most, len(rules)) + 1)) for _ in range(many)]
 
 
 def short_names(many):

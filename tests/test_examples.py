@@ -1,6 +1,9 @@
 """The examples of the document, as they stand there."""
 
-from ruleworlds.errors import InvalidRule, Unreadable
+from ruleworlds.alike import alike, check_parting, follows
+from ruleworlds.errors import Barred, InvalidRule, NotBasic, Unreadable
+from ruleworlds.founded import check_record, values
+from ruleworlds.makes import barred, program_of
 from ruleworlds.programs import Program, choice, rule
 from ruleworlds.worlds import answers, holds_in, is_answer, pairs
 from tests.helpers import Case
@@ -49,3 +52,54 @@ class ExamplesTest(Case):
 
     def test_is_answer(self):
         self.same(is_answer(Program.read("a | not a."), ()), True)
+
+    def test_alike(self):
+        one = Program.read("a | b.")
+        other = Program.read("a :- not b.\nb :- not a.")
+        self.same([alike(one, other, "nothing"), alike(one, other) is None], [None, False])
+
+    def test_check_parting(self):
+        one = Program.read("a | b.")
+        other = Program.read("a :- not b.\nb :- not a.")
+        part = Program.read("a :- b.\nb :- a.")
+        self.same(check_parting(one, other, (part, ("a", "b"))), True)
+
+    def test_alike_without_rules(self):
+        self.same(alike(Program.read("a :- a."), Program()), None)
+
+    def test_follows(self):
+        self.same(follows(Program.read("a."), rule(["a", "b"])), None)
+        self.same(follows(Program(), rule(["a"])), ((), ()))
+
+    def test_a_part_with_another_name(self):
+        self.same(check_parting(Program(), Program.read("a."), (Program.facts(("b",)), ("b",))), False)
+
+    def test_barred(self):
+        self.same(barred([((), ("a",))], ("a",)), ("total", ((), ("a",))))
+        self.same(barred([((), ()), (("a",), ("a",))], ("a",), "plain"), ("upward", ((), ()), ("a",)))
+
+    def test_program_of(self):
+        p = program_of([((), ()), (("a",), ("a",))], ("a",))
+        self.same(list(pairs(p)), [((), ()), (("a",), ("a",))])
+
+    def test_program_of_what_is_barred(self):
+        self.error(Barred, "why", ("total", ((), ("a",))), program_of, [((), ("a",))], ("a",))
+
+    def test_barred_from_single_ones(self):
+        rows = [(("a",), ("a",)), (("a",), ("a", "b")), (("a", "b"), ("a", "b")), (("b",), ("a", "b")),
+                (("b",), ("b",))]
+        self.same(barred(rows, ("a", "b"), "single"), ("meet", (("a",), ("a", "b")), (("b",), ("a", "b"))))
+
+    def test_values(self):
+        self.same(values(Program.read("a :- not b.") + Program.read("b :- not a.") + Program.read("c.")),
+                  {"a": None, "b": None, "c": True})
+        self.same(values(Program.read("a :- not b.")), {"a": True, "b": False})
+
+    def test_not_basic(self):
+        self.error(NotBasic, "culprit", (("a", "b"), (), (), ()), values, Program.read("a | b."))
+
+    def test_check_record(self):
+        program = Program.read("a :- not b.")
+        self.same(check_record(program, (("false", ("b",)), ("true", (("a",), (), (), ("b",))))), None)
+        self.same(check_record(program, (("true", (("a",), (), (), ("b",))),)), ("step", 0))
+        self.same(check_record(program, (("false", ("b",)),)), ("missing", "a"))

@@ -11,12 +11,21 @@ ROOT = pathlib.Path(__file__).resolve().parent.parent
 FILES = sorted((ROOT / "ruleworlds").glob("*.py"))
 
 SCRIPT = """
+from ruleworlds.alike import alike, follows
+from ruleworlds.founded import record, values
+from ruleworlds.makes import barred, program_of
 from ruleworlds.programs import Program, choice, rule
 from ruleworlds.worlds import answers, pairs, worlds
 p = Program(choice("zb"), choice("a", ["c", "zb"]), rule(["d", "c", "ab"], bars=["e"]), rule(["e"], ["e"], ["d", "a"]))
 print(p.rules, p.names, p.kind, p.written())
 print((p + Program.facts(("f", "g"))).written(), (p - Program(choice("zb"))).rules)
 print(list(worlds(p)), list(pairs(p)), answers(p))
+q = Program.read("a :- not b.\\nb :- not a.\\nc :- d.\\nd :- c.\\ne.")
+for added in ("rules", "facts", "nothing"):
+    part, world = alike(q, Program.read("a | b."), added)
+    print(part.written(), world)
+print(follows(q, rule(["a", "b"])), values(q), record(q), program_of(list(pairs(q))[::-1], q.names, "single").written())
+print(barred(list(pairs(q))[1:], q.names), program_of([], ("a", "b")).written())
 """
 
 

@@ -1,42 +1,14 @@
 """Worlds, pairs and answers (points 1, 2, 5 to 7 and the section ruleworlds/worlds.py)."""
 
 import random
-import time
 
 from ruleworlds import worlds as module
 from ruleworlds.errors import InvalidPair, InvalidRule, InvalidWorld, NotAProgram
 from ruleworlds.programs import Program, choice, rule
 from ruleworlds.worlds import answers, holds, holds_in, is_answer, pairs, rule_holds, rule_holds_in, worlds
-from tests.helpers import (EMPTY_RULE, FACT, Case, all_rules, odd_for, short_names, slow_answers, slow_names, slow_pairs,
-                           slow_rule_holds, slow_rule_holds_in, slow_worlds, some_programs, subsets)
-
-SECONDS = 5
-
-
-def all_pairs(names):
-    return [(here, there) for here in subsets(names) for there in subsets(names) if set(here) <= set(there)]
-
-
-def wrong_programs():
-    return odd_for("", "a", "a.", (), [], ("a",), FACT, EMPTY_RULE, ((), ()), [FACT], [Program()], (Program(),),
-                   {"p": Program()})
-
-
-def wrong_rules():
-    return odd_for("", "a", "a.", (), [], ("a",), ["a"], ((), ()), Program(), Program(FACT), list(FACT))
-
-
-def wrong_worlds():
-    return odd_for("", "a", "ab", [], ["a"], ["a", "b"], ("b", "a"), ("a", "a"), FACT, EMPTY_RULE, ((), ()), Program(),
-                   Program(FACT))
-
-
-def wrong_pairs():
-    return odd_for("", "a", "ab", (), [], ("a",), ("a", "b"), ["a"], FACT, EMPTY_RULE, Program(), Program(FACT),
-                   [(), ()], [("a",), ("a",)], ((), (), ()), (("a",), ()), (("a", "b"), ("a", "c")), (("b",), ("a", "c")),
-                   (["a"], ["a"]), (("a",), ["a"]), (["a"], ("a",)), ((),), (("a",),), (("a", "a"), ("a",)),
-                   (("a",), ("a", "a")), ({}, ()), (Program(), Program()), ((), ((), ())), {"here": (), "there": ()})
-
+from tests.helpers import (EMPTY_RULE, FACT, Case, all_pairs, all_rules, short_names, slow_answers, slow_names,
+                           slow_pairs, slow_rule_holds, slow_rule_holds_in, slow_worlds, some_programs, subsets,
+                           wrong_pairs, wrong_programs, wrong_rules, wrong_worlds)
 
 class HoldsTest(Case):
 
@@ -285,12 +257,6 @@ class AnswersTest(Case):
 
 
 class LimitTest(Case):
-
-    def timed(self, call, *args):
-        start = time.perf_counter()
-        found = call(*args)
-        self.assertLess(time.perf_counter() - start, SECONDS)
-        return found
 
     def test_ten_names_that_may_all_be_chosen(self):
         names = short_names(10)
