@@ -1,4 +1,4 @@
-"""The checks of arguments that several files share."""
+"""The checks of arguments, and the small questions about names, that several files share."""
 
 from ruleworlds.errors import InvalidKind, InvalidPair, InvalidWorld, NotAProgram
 from ruleworlds.programs import Program, is_world
@@ -15,6 +15,16 @@ def is_pair(thing):
 def has_all(names, wanted):
     """Whether each wanted name is one of the names."""
     return all([name in names for name in wanted])
+
+
+def meet(one, other):
+    """Whether one of the names is among the others."""
+    return any([name in other for name in one])
+
+
+def without(names, left_out):
+    """The names, in their order, that are not left out."""
+    return tuple([name for name in names if name not in left_out])
 
 
 def check_program(thing):

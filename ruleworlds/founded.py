@@ -1,6 +1,6 @@
 """Founded values of basic programs, and records that show them step by step."""
 
-from ruleworlds.checks import check_program, has_all
+from ruleworlds.checks import check_program, has_all, meet
 from ruleworlds.errors import NotBasic
 from ruleworlds.programs import is_world
 
@@ -64,7 +64,7 @@ def _steps_to_all(program):
         if falling:
             steps.append(("false", tuple(falling)))
             fallen = fallen + falling
-        rising = [row for row in _reasons(program, possible_names) if not _meet(row[0], risen)]
+        rising = [row for row in _reasons(program, possible_names) if not meet(row[0], risen)]
         if not rising:
             return steps
         steps.extend([("true", row) for row in rising])
@@ -73,7 +73,7 @@ def _steps_to_all(program):
 
 def _reasons(program, world):
     """One rule for each name that follows from the program and the world, its needs by rules before it."""
-    rows = [row for row in program.rules if not _meet(row[3], world)]
+    rows = [row for row in program.rules if not meet(row[3], world)]
     found = []
     known = {}
     grows = True
@@ -81,7 +81,7 @@ def _reasons(program, world):
         grows = False
         for row in rows:
             heads, _, needs, _ = row
-            if not _meet(heads, known) and has_all(known, needs):
+            if not meet(heads, known) and has_all(known, needs):
                 known[heads[0]] = True
                 found.append(row)
                 grows = True
@@ -91,11 +91,6 @@ def _reasons(program, world):
 def _heads(rows):
     """The heads of rules that have just one head each."""
     return [row[0][0] for row in rows]
-
-
-def _meet(one, other):
-    """Whether one of the names is among the others."""
-    return any([name in other for name in one])
 
 
 def _show(shown, step):
@@ -122,14 +117,14 @@ def _may_rise(shown, row):
     heads, _, needs, bars = row
     is_met = all([shown.get(name) is True for name in needs])
     is_free = all([shown.get(name) is False for name in bars])
-    return not _meet(heads, shown) and is_met and is_free
+    return not meet(heads, shown) and is_met and is_free
 
 
 def _may_fall(program, shown, names):
     """Whether all these names may be shown to be false at once."""
-    if not names or not has_all(program.names, names) or _meet(names, shown):
+    if not names or not has_all(program.names, names) or meet(names, shown):
         return False
-    return all([_is_stopped(shown, names, row) for row in program.rules if _meet(row[0], names)])
+    return all([_is_stopped(shown, names, row) for row in program.rules if meet(row[0], names)])
 
 
 def _is_stopped(shown, names, row):

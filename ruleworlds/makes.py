@@ -1,6 +1,6 @@
 """Which sets of pairs come of programs, and programs that they come of."""
 
-from ruleworlds.checks import check_kind, check_world, has_all, is_pair
+from ruleworlds.checks import check_kind, check_world, has_all, is_pair, without
 from ruleworlds.errors import Barred, InvalidPair
 from ruleworlds.programs import Program
 from ruleworlds.worlds import worlds
@@ -26,7 +26,7 @@ def program_of(pairs, names, kind="any"):
     rows = []
     # The program without rules holds in every world.
     for there in list(worlds(free, names)):
-        bars = _without(names, there)
+        bars = without(names, there)
         if there not in lows:
             rows.append(((), (), there, bars))
             continue
@@ -94,13 +94,13 @@ def _heads_against(here, there, lows, kind):
     (low, there) would be in it, and low would have the head that is chosen.
     """
     if kind != "single":
-        heads = _without(there, here)
+        heads = without(there, here)
         return heads, (heads if kind == "any" else ())
     least = there
     for low in lows:
         if has_all(low, here):
             least = _common(least, low)
-    return _without(least, here)[:1], ()
+    return without(least, here)[:1], ()
 
 
 def _worlds_below(chosen):
@@ -109,11 +109,6 @@ def _worlds_below(chosen):
     for here, there in chosen:
         lows.setdefault(there, []).append(here)
     return lows
-
-
-def _without(names, left_out):
-    """The set of those names that are not left out."""
-    return tuple([name for name in names if name not in left_out])
 
 
 def _common(one, other):

@@ -82,6 +82,52 @@ def is_answer(program, world):
     return has_all(own, world) and _is_founded(_numbered(program, bits), _number(world, bits))
 
 
+class Table:
+    """Some pairs, each with a bit of its own, so that a set of them is one number."""
+
+    def __init__(self, chosen):
+        self.every = (1 << len(chosen)) - 1
+        self._here = {}
+        self._there = {}
+        self._own = {}
+        self._around = {}
+        for place, (here, there) in enumerate(chosen):
+            bit = 1 << place
+            _mark(self._here, here, bit)
+            _mark(self._there, there, bit)
+            _mark(self._around, [there], bit)
+            if here == there:
+                self._own[there] = bit
+
+    def against(self, row):
+        """The pairs in which the rule does not hold."""
+        return self._unmet(row, self._there) | self._unmet(row, self._here)
+
+    def alone(self, gone):
+        """The worlds there of which, when these pairs are gone, just (there, there) is left."""
+        return [there for there, own in self._own.items() if (self._around[there] & ~gone) == own]
+
+    def _unmet(self, row, asked):
+        """The pairs in which the rule has no reason to hold, its needs and heads asked in this one of their worlds."""
+        heads, denied, needs, bars = row
+        unmet = self.every
+        for name in needs:
+            unmet = unmet & asked.get(name, 0)
+        for name in denied:
+            unmet = unmet & self._there.get(name, 0)
+        for name in heads:
+            unmet = unmet & ~asked.get(name, 0)
+        for name in bars:
+            unmet = unmet & ~self._there.get(name, 0)
+        return unmet
+
+
+def _mark(marks, things, bit):
+    """Add the bit to the number that is kept for each of the things."""
+    for thing in things:
+        marks[thing] = marks.get(thing, 0) | bit
+
+
 def _chosen_names(program, names):
     """The names whose worlds are wanted: those of the program if none are given."""
     check_program(program)

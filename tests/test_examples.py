@@ -1,8 +1,12 @@
 """The examples of the document, as they stand there."""
 
 from ruleworlds.alike import alike, check_parting, follows
-from ruleworlds.errors import Barred, InvalidRule, NotBasic, Unreadable
+from ruleworlds.bases import base, bases, conflicts, cures, spare
+from ruleworlds.desk import Desk
+from ruleworlds.errors import (Barred, InvalidDeed, InvalidRule, NoAnswer, NoSuchSheet, NotASplit, NotBasic,
+                               Unreadable)
 from ruleworlds.founded import check_record, values
+from ruleworlds.layers import all_answers, layers, lower, possible, rest, splits, sure
 from ruleworlds.makes import barred, program_of
 from ruleworlds.programs import Program, choice, rule
 from ruleworlds.worlds import answers, holds_in, is_answer, pairs
@@ -103,3 +107,53 @@ class ExamplesTest(Case):
         self.same(check_record(program, (("false", ("b",)), ("true", (("a",), (), (), ("b",))))), None)
         self.same(check_record(program, (("true", (("a",), (), (), ("b",))),)), ("step", 0))
         self.same(check_record(program, (("false", ("b",)),)), ("missing", "a"))
+
+    def test_splits_and_parts(self):
+        program = Program.read("a :- not b.")
+        self.same([splits(program, ("b",)), splits(program, ("a",))], [True, False])
+        self.same(rest(program, ("b",), ()).written(), "a.")
+        self.error(NotASplit, "thing", ("a",), lower, program, ("a",))
+
+    def test_layers(self):
+        self.same(layers(Program.read("a :- b.") + Program.read("c :- not c.")), [("b",), ("a",), ("c",)])
+
+    def test_all_answers(self):
+        self.same(list(all_answers(Program.read("a :- not b.") + Program.read("b :- not a."))), [("a",), ("b",)])
+
+    def test_sure_and_possible(self):
+        program = Program.read("a | b.") + Program.read("c :- a.") + Program.read("c :- b.")
+        self.same([sure(program), possible(program)], [("c",), ("a", "b", "c")])
+        self.assertRaises(NoAnswer, sure, Program.read("a :- not a."))
+
+    def test_spare_rules_and_bases(self):
+        program = Program.read("a.") + Program.read("a :- b.")
+        self.same(spare(program), ((("a",), (), ("b",), ()),))
+        self.same([part.written() for part in bases(program)], ["a."])
+        self.same(base(Program.read("a :- a.")).written(), "")
+
+    def test_conflicts_and_cures(self):
+        program = Program.read("a.") + Program.read(":- a.") + Program.read("b.")
+        self.same([[len(part) for part in conflicts(program)], [part.written() for part in cures(program)]],
+                  [[2], [":- a.", "a."]])
+
+    def test_desk(self):
+        desk = Desk()
+        desk.put("one", Program.read("a."))
+        desk.put("two", Program.read("a :- b."))
+        self.same(desk.change(), "nothing")
+
+    def test_a_change_of_all(self):
+        desk = Desk()
+        desk.put("one", Program.read("a :- not b."))
+        desk.put("one", Program.read("a | b."))
+        self.same(desk.change(), "all")
+
+    def test_a_sheet_that_is_off(self):
+        desk = Desk()
+        desk.put("one", Program.read("a."))
+        desk.switch("one")
+        self.same([desk.sheets, desk.lit, len(desk.whole)], [("one",), (), 0])
+
+    def test_a_deed_that_is_refused(self):
+        self.error(InvalidDeed, "place", 1, Desk().do, ("put", "one", Program.read("a.")), ("drop", "two"))
+        self.error(NoSuchSheet, "sheet", "one", Desk().drop, "one")

@@ -283,6 +283,17 @@ class LimitTest(Case):
         self.same(self.timed(answers, Program(rule(names))), [(name,) for name in names])
         self.same(self.timed(answers, Program.facts(names)), [names])
 
+    def test_sums_of_programs_of_ten_names(self):
+        names = short_names(10)
+        program = Program(*[choice(name) for name in names[1:]])
+        idle = [rule([names[0], x, y], [x], denied=[z]) for x in names[1:] for y in names[1:] for z in names[1:]]
+        for start in range(0, 600, 60):
+            program = program + Program(*idle[start:start + 60])
+        self.assertGreater(len(program), 600)
+        self.same(self.timed(answers, program), subsets(names[1:]))
+        self.assertIs(self.timed(is_answer, program, names[1:]), True)
+        self.assertIs(self.timed(is_answer, program, names), False)
+
     def test_pairs_of_six_names_and_many_rules(self):
         names = tuple("abcdef")
         rows = [rule(there, here, [x for x in names if x not in there], here) for here, there in all_pairs(names)]
